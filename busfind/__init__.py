@@ -1,0 +1,1 @@
+"""Busfind: things on one wire found by the bits of their numbers."""
