@@ -29,6 +29,18 @@ def is_number(width, number):
     return all(sign in "01" for sign in number)
 
 
+def is_beginning(width, text):
+    """Tell whether this is a text of fewer signs 0 and 1 than a number has."""
+    return isinstance(text, str) and len(text) < width and is_number(len(text), text)
+
+
+def heard(numbers, beginning):
+    """Tell whether some of the numbers have a 0 behind this beginning, and whether some have a 1."""
+    zero = any(number.startswith(beginning + "0") for number in numbers)
+    one = any(number.startswith(beginning + "1") for number in numbers)
+    return (zero, one)
+
+
 def met(width, numbers):
     """Tell the beginnings with which some of the numbers begin, and the empty one, rising."""
     require_width(width)

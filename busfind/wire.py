@@ -17,7 +17,7 @@ class Wire:
 
     def __init__(self, width):
         require_width(width)
-        self._width = width
+        self.width = width
         # Each number that hangs, with True where it has an alarm.
         self._hanging = {}
         self._listening = []
@@ -27,7 +27,7 @@ class Wire:
 
     def hang(self, number):
         """Hang a thing on the wire, without an alarm."""
-        require_number(self._width, number)
+        require_number(self.width, number)
         if number in self._hanging:
             raise There("a thing of this number hangs on the wire")
         # It is silent till the next round, which alone tells who listens.
@@ -86,10 +86,10 @@ class Wire:
         return self._many_looks
 
     def _require_hanging(self, number):
-        require_number(self._width, number)
+        require_number(self.width, number)
         if number not in self._hanging:
             raise NotThere("no thing of this number hangs on the wire")
 
     def _require_round(self):
-        if self._many_said == self._width:
+        if self._many_said == self.width:
             raise NoRound("no round is under way on the wire")

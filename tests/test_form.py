@@ -7,9 +7,15 @@ import unittest
 
 PACKAGE = pathlib.Path(__file__).resolve().parent.parent / "busfind"
 FILES = sorted(PACKAGE.glob("*.py"))
-FUNCTIONS = {"numbers": ["met"]}
+FUNCTIONS = {
+    "numbers": ["met"],
+    "papers": ["shown", "fewest"],
+    "rosters": ["judged", "least"],
+    "plans": ["plan_of", "follows", "followed"],
+}
 CLASSES = {
     "wire": {"Wire": ["hang", "off", "alarm", "calm", "begin", "say", "look", "hung", "alarms", "looks"]},
+    "walks": {"Walk": ["step", "go_round", "go_all", "left", "found", "paper", "is_under_way"]},
 }
 LIBRARY = {"heapq", "math", "itertools", "collections"}
 
