@@ -12,10 +12,14 @@ FUNCTIONS = {
     "papers": ["shown", "fewest"],
     "rosters": ["judged", "least"],
     "plans": ["plan_of", "follows", "followed"],
+    "days": ["played"],
+    "notes": ["written", "read"],
 }
 CLASSES = {
     "wire": {"Wire": ["hang", "off", "alarm", "calm", "begin", "say", "look", "hung", "alarms", "looks"]},
     "walks": {"Walk": ["step", "go_round", "go_all", "left", "found", "paper", "is_under_way"]},
+    "desk": {"Desk": ["turn"]},
+    "keeper": {"Keeper": ["refresh", "last"]},
 }
 LIBRARY = {"heapq", "math", "itertools", "collections"}
 
